@@ -1,0 +1,1 @@
+"""Waitless: what hands can work out of which any may stop at any step."""
