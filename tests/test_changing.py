@@ -199,6 +199,32 @@ class Renaming(Case):
             self.check(rings(*one), shuffled(rings(*other), chance), sorted(one) == sorted(other))
         self.assertLess(time.monotonic() - begun, 60)
 
+    def test_webs_that_are_alike_in_most_ways(self):
+        # Two webs of sixteen places with six ties each, any two places alike seen from near by: only by taking two
+        # places or more together they can be told apart.
+        def web(ties, places=16, first=0):
+            table = {}
+            for one, other in itertools.product(range(places), repeat=2):
+                if ties(one, other):
+                    for row in plain_parts(((0, first + one), (1, first + other))):
+                        table[row] = [tuple((hand, 0) for hand, _ in row)]
+            return table
+
+        def rook(one, other):
+            return one != other and (one // 4 == other // 4 or one % 4 == other % 4)
+
+        def turn(one, other):
+            far = ((one // 4 - other // 4) % 4, (one % 4 - other % 4) % 4)
+            return far in ((0, 1), (0, 3), (1, 0), (3, 0), (1, 1), (3, 3))
+        chance = random.Random(12)
+        begun = time.monotonic()
+        webs = {"rook": web(rook), "turn": web(turn), "two": {**web(rook), **web(turn, first=16)},
+                "rooks": {**web(rook), **web(rook, first=16)}, "turns": {**web(turn), **web(turn, first=16)}}
+        for one in webs:
+            for other in webs:
+                self.check(Task(2, webs[one]), shuffled(Task(2, webs[other]), chance), one == other)
+        self.assertLess(time.monotonic() - begun, 60)
+
     def test_large(self):
         chance = random.Random(10)
         nine = tuple(range(9))

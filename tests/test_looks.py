@@ -273,7 +273,10 @@ class Orders(Case):
             weaving = some_whole(chance, many, chance.randint(2, 40 // many))
             held = self.check(many, weaving)
             if len(weaving) < 30:
-                self.assertEqual(held, bool(plain_holds(many, weaving)))
+                plain = plain_holds(many, weaving)
+                self.assertEqual(held, bool(plain))
+                for thing in itertools.product(range(len(weaving)), range(many)):
+                    self.assertIs(is_hold(many, weaving, thing), thing in plain)
             found.append(held)
         self.assertTrue(100 < sum(found) < 1400)
 

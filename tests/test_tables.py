@@ -187,6 +187,14 @@ class Tables(Case):
                 self.told(TooMany, corners_of, task, 3)
             else:
                 self.assertEqual(len(corners_of(task, 3)), len(choices(task, 3)))
+                # Inputs of one hand more have one facet each, up to just 6000 and above.
+                for more in (7, 8):
+                    added = {((0, value),): [((0, value),)] for value in range(1, 1 + more)}
+                    wider = Task(2, {**table, **added})
+                    if more == 8:
+                        self.told(TooMany, corners_of, wider, 3)
+                    else:
+                        self.assertEqual(len(corners_of(wider, 3)), len(corners_of(task, 3)) + 7)
 
     def test_large(self):
         begun = time.monotonic()

@@ -62,9 +62,7 @@ def ask_whole(many, weaving):
 
 def is_corner(many, rounds, thing):
     """Whether thing is a corner for so many rounds in which only hands below many were seen."""
-    if not is_pair(thing) or not stands_together(rounds, (thing,)):
-        return False
-    return hands_in(row_seen(rounds, (thing,)))[-1] < many
+    return stands_together(rounds, (thing,)) and hands_in(row_seen(rounds, (thing,)))[-1] < many
 
 
 def are_looks(many, weaving):

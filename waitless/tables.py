@@ -3,7 +3,7 @@
 from waitless.asking import ask_rounds
 from waitless.courses import makes_course, views_behind
 from waitless.errors import BadCourse, NoTable
-from waitless.judging import is_hand, is_number, is_pair
+from waitless.judging import is_number
 from waitless.pictures import all_facets, ask_few_facets, corners_in
 from waitless.rows import hands_in
 from waitless.tasks import ask_input, ask_task, greatest
@@ -85,17 +85,12 @@ def makes_table(task, rounds, thing):
     if not isinstance(thing, dict) or not all([is_number(value) for value in thing.values()]):
         return False
     # Keys must be built as corners before any is looked up: True would be found in the place of 1.
-    if not all([is_corner_built(rounds, key) for key in thing]):
+    if not all([is_built(rounds, (key,)) for key in thing]):
         return False
     found = task_corners(task, rounds)
     if len(found) != len(thing) or not all([corner in thing for corner in found]):
         return False
     return all([is_right_for(task, rounds, thing, row) for row in task.inputs()])
-
-
-def is_corner_built(rounds, thing):
-    """Whether thing is a pair of a hand and what is built as a view."""
-    return is_pair(thing) and is_hand(thing[0]) and is_built(rounds, (thing,))
 
 
 def is_right_for(task, rounds, table, row):
