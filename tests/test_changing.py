@@ -141,6 +141,11 @@ class Renaming(Case):
                  (hands, {5: []}, answers), (hands, {True: 1, 5: 5}, answers), (hands, {5: 1, "6": 2}, answers)]
         self.wrong(renamed, [SMALL, self.right], (BadTask, NO_TASKS), (BadRenaming, wrong))
         self.wrong(renaming_to, [SMALL, SMALL], (BadTask, NO_TASKS), (BadTask, NO_TASKS))
+        task = agreement(2, (0, 1))
+        self.assertEqual(renamed(task, ((1, 0), {0: 0, 1: 1, 7: 7}, {1: 1, 0: 0})), task)
+        for inputs, answers in (({0: 0}, {0: 0, 1: 1}), ({1: 0, 2: 1}, {0: 0, 1: 1}), ({0: 0, 1: 1}, {1: 1}),
+                                ({0: 0, 1: 1}, {0: 0, 2: 2})):
+            self.told(BadRenaming, renamed, task, ((0, 1), inputs, answers))
 
     def check(self, one, other, can):
         found = self.same(renaming_to, "one other", one, other)
@@ -182,6 +187,14 @@ class Renaming(Case):
         self.assertIsNone(renaming_to(SMALL, Task(4, SMALL.table())))
         self.check(Task(4, {((0, 1),): [((0, 1),)]}), Task(4, {((3, 7),): [((3, 8),)]}), True)
         self.check(agreement(2, (0, 1)), few(2, (0, 1), 2), False)
+
+    def test_answers_that_stand_unlike_often(self):
+        # The answer 2 stands once in both tasks, the others 5 and 2 times, or 4 and 3 times.
+        tasks = [Task(1, {((0, at),): [((0, int(answer)),) for answer in told] for at, told in enumerate(every)})
+                 for every in (("01", "01", "02", "0", "0"), ("01", "01", "02", "0", "1"))]
+        for one in tasks:
+            for other in tasks:
+                self.check(one, other, one == other)
 
     def test_rings(self):
         def rings(*lengths):
