@@ -1,7 +1,7 @@
 """What callers must hand in: each function here raises the error of a parameter that is wrong."""
 
-from waitless.errors import BadHand, BadHands, BadMany, BadRounds, BadRow
-from waitless.judging import are_hands, is_from, is_hand, is_rowlike, HANDS_MOST
+from waitless.errors import BadAnswer, BadHand, BadHands, BadMany, BadRounds, BadRow
+from waitless.judging import are_hands, is_from, is_hand, is_rowlike, is_value, HANDS_MOST
 
 ROUNDS_MOST = 6
 
@@ -34,3 +34,11 @@ def ask_rounds(rounds, most=ROUNDS_MOST):
     """BadRounds unless rounds is a number from 0 to most."""
     if not is_from(rounds, 0, most):
         raise BadRounds(f"rounds are a number from 0 to {most}")
+
+
+def ask_answer(answer, corner):
+    """What answer tells of corner; BadAnswer(corner) unless it is a number that may stand in a row."""
+    value = answer(corner)
+    if not is_value(value):
+        raise BadAnswer(corner)
+    return value
