@@ -6,7 +6,7 @@ from waitless.odd import ask_odd_paper
 from waitless.pairs import ties_away
 from waitless.rows import part_with
 from waitless.tasks import ask_task
-from waitless.weights import all_lone_choices, ask_lone_choice, ask_three, counts_along, is_triple
+from waitless.weights import all_lone_choices, ask_lone_choice, ask_three, counts_along, is_triple, lone_choices_many
 from waitless.weights import makes_choice_paper, side_ends, side_web, sides_of, ties_of
 
 ANSWERS_MOST = 300
@@ -68,11 +68,7 @@ def choice_paper(task, row, choice):
 def all_rounds(task, row):
     """The dict from all choices to papers, None if the ways of some choice can be filled."""
     ask_three(task, row)
-    # The choices are told only once they are known to be few.
-    many = 1
-    for pair in row:
-        many = many * len(task.answers((pair,)))
-    if many > CHOICES_MOST:
+    if lone_choices_many(task, row) > CHOICES_MOST:
         raise TooMany(CHOICES_MOST)
     ask_few_answers(task, row)
     frames = {}
@@ -114,7 +110,8 @@ def makes_all_rounds(task, row, thing):
     """Whether thing is a dict from all choices to papers none of which is filled."""
     if not isinstance(thing, dict) or not all([is_triple(key) for key in thing]):
         return False
-    if sorted(thing) != all_lone_choices(task, row):
+    # All choices are told only if they are as many as the keys.
+    if len(thing) != lone_choices_many(task, row) or sorted(thing) != all_lone_choices(task, row):
         return False
     return all([makes_choice_paper(task, row, choice, paper) and paper[0] != "filled"
                 for choice, paper in thing.items()])

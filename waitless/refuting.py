@@ -6,7 +6,7 @@ from waitless.errors import NoRefutation
 from waitless.judging import is_number, is_pair
 from waitless.pictures import all_facets, ask_few_facets, makes_face
 from waitless.rows import hands_in, told_of
-from waitless.solving import ask_few_ways, begun, is_stuck, Puzzle, solution, solutions_many, tried, unsettled
+from waitless.solving import ask_few_ways, begun, Board, is_stuck, Puzzle, solution, solutions_many, tried, unsettled
 from waitless.tables import choices, TABLE_ROUNDS_MOST, task_corners, values_answered
 from waitless.tasks import ask_task
 from waitless.views import is_built, row_seen
@@ -25,8 +25,8 @@ def tables_many(task, rounds):
 def refutation(task, rounds):
     """A refutation of task for so many rounds, None if there is a table."""
     puzzle = small_puzzle(task, rounds)
-    left, strikes = begun(puzzle)
-    return paper_from(puzzle, rounds, left, strikes)
+    board, strikes = begun(puzzle)
+    return paper_from(puzzle, rounds, board, strikes)
 
 
 def is_refutation(task, rounds, thing):
@@ -72,21 +72,22 @@ def table_puzzle(task, rounds):
     return Puzzle(let, bonds)
 
 
-def paper_from(puzzle, rounds, left, strikes):
-    """A paper that begins with these strikes, left being what is left behind them; None if there is a table."""
+def paper_from(puzzle, rounds, board, strikes):
+    """A paper that begins with these strikes, which are done on board; None if there is a table."""
     told = tuple([strike_told(puzzle, rounds, strike) for strike in strikes])
-    if is_stuck(left, strikes):
+    if is_stuck(board, strikes):
         return (told, strikes[-1][0], {})
-    corner = unsettled(puzzle, left)
+    corner = unsettled(puzzle, board)
     if corner is None:
         return None
     papers = {}
-    for value in left[corner]:
-        further, later = tried(puzzle, left, corner, value)
-        paper = paper_from(puzzle, rounds, further, later)
+    mark = len(board.log)
+    for value in list(board.left[corner]):
+        paper = paper_from(puzzle, rounds, board, tried(puzzle, board, corner, value))
         if paper is None:
             return None
         papers[value] = paper
+        board.put_back(mark)
     return (told, corner, papers)
 
 
@@ -99,34 +100,36 @@ def strike_told(puzzle, rounds, strike):
 
 def refutes(task, rounds, let, thing):
     """Whether thing is a refutation, let being the choices of all corners."""
-    waiting = [(thing, {corner: list(let[corner]) for corner in let})]
+    board = Board(let)
     # Papers may stand in papers so deep that functions can't follow by calling themselves.
+    waiting = [(thing, 0, None, None)]
     while len(waiting) > 0:
-        paper, left = waiting.pop()
-        if not is_paper_right(task, rounds, left, paper):
+        paper, mark, tried_at, value = waiting.pop()
+        board.put_back(mark)
+        if tried_at is not None:
+            board.leave(tried_at, [value])
+        if not is_paper_right(task, rounds, board, paper):
             return False
         corner, papers = paper[1:]
-        for value in papers:
-            further = {other: left[other] for other in left}
-            further[corner] = [value]
-            waiting.append((papers[value], further))
+        for following in papers:
+            waiting.append((papers[following], len(board.log), corner, following))
     return True
 
 
-def is_paper_right(task, rounds, left, thing):
-    """Whether thing is a paper, the papers in it aside; what its strikes take away is taken out of left."""
+def is_paper_right(task, rounds, board, thing):
+    """Whether thing is a paper, the papers in it aside; what its strikes take away is taken away on board."""
     if not isinstance(thing, tuple) or len(thing) != 3 or not isinstance(thing[0], tuple):
         return False
     strikes, corner, papers = thing
     for strike in strikes:
-        if not is_strike_right(task, rounds, left, strike):
+        if not is_strike_right(task, rounds, board.left, strike):
             return False
-        left[strike[0]] = [value for value in left[strike[0]] if value != strike[1]]
-    if not is_built(rounds, (corner,)) or corner not in left or not isinstance(papers, dict):
+        board.strike(strike[0], strike[1])
+    if not is_built(rounds, (corner,)) or corner not in board.left or not isinstance(papers, dict):
         return False
     if not all([is_number(value) for value in papers]):
         return False
-    return len(papers) != 1 and sorted(papers) == left[corner]
+    return len(papers) != 1 and sorted(papers) == board.left[corner]
 
 
 def is_strike_right(task, rounds, left, thing):

@@ -15,8 +15,31 @@ class Puzzle:
         for number, bond in enumerate(self.bonds):
             for place in bond[0]:
                 self.touching[place].append(number)
-        # Who has one value can never be tried, so that copies need not be searched for them.
+        # Where there is but one value nothing is tried, so that those places need not be gone through.
         self.several = [place for place in let if len(let[place]) > 1]
+
+
+class Board:
+    """What is left to places, and all that it was before, so that it can be put back without copies."""
+
+    def __init__(self, let):
+        self.left = {place: list(let[place]) for place in let}
+        self.log = []
+
+    def leave(self, place, some):
+        """Just some values are left to place."""
+        self.log.append((place, self.left[place]))
+        self.left[place] = some
+
+    def strike(self, place, value):
+        """Value is no longer left to place."""
+        self.leave(place, [other for other in self.left[place] if other != value])
+
+    def put_back(self, mark):
+        """All is as it was when the log was no longer than mark."""
+        while len(self.log) > mark:
+            place, some = self.log.pop()
+            self.left[place] = some
 
 
 def ask_few_ways(groups):
@@ -29,22 +52,19 @@ def ask_few_ways(groups):
 
 
 def begun(puzzle):
-    """The pair of what is left to all places once all bonds are looked at, and the strikes that led there."""
-    left = {place: puzzle.let[place] for place in puzzle.let}
-    strikes = struck(puzzle, left, list(range(len(puzzle.bonds))))
-    return (left, strikes)
+    """The pair of a Board once all bonds are looked at, and the strikes that led there."""
+    board = Board(puzzle.let)
+    return (board, struck(puzzle, board, list(range(len(puzzle.bonds)))))
 
 
-def tried(puzzle, left, place, value):
-    """The pair of what is left if place has this value, and the strikes that led there."""
-    further = {other: left[other] for other in left}
-    further[place] = [value]
-    strikes = struck(puzzle, further, puzzle.touching[place])
-    return (further, strikes)
+def tried(puzzle, board, place, value):
+    """The strikes that follow on board if place has this value."""
+    board.leave(place, [value])
+    return struck(puzzle, board, puzzle.touching[place])
 
 
-def struck(puzzle, left, numbers):
-    """Strikes out of left what bonds don't let, begun with those of these numbers.
+def struck(puzzle, board, numbers):
+    """Strikes out on board what bonds don't let, begun with those of these numbers.
 
     The list of the strikes, (place, value, number of the bond), in sequence. It ends where a place has nothing left.
     """
@@ -53,11 +73,11 @@ def struck(puzzle, left, numbers):
     while len(waiting) > 0:
         following = {}
         for number in waiting:
-            gone = lost(puzzle.bonds[number], left)
+            gone = lost(puzzle.bonds[number], board.left)
             for place, value in gone:
-                left[place] = [other for other in left[place] if other != value]
+                board.strike(place, value)
                 strikes.append((place, value, number))
-                if len(left[place]) == 0:
+                if len(board.left[place]) == 0:
                     return strikes
                 for other in puzzle.touching[place]:
                     following[other] = True
@@ -77,57 +97,61 @@ def lost(bond, left):
     return found
 
 
-def is_stuck(left, strikes):
+def is_stuck(board, strikes):
     """Whether these strikes have left nothing to some place."""
-    return len(strikes) > 0 and len(left[strikes[-1][0]]) == 0
+    return len(strikes) > 0 and len(board.left[strikes[-1][0]]) == 0
 
 
-def unsettled(puzzle, left):
+def unsettled(puzzle, board):
     """A place with the fewest values left, two or more; None if all have one."""
-    found = [place for place in puzzle.several if len(left[place]) > 1]
+    found = [place for place in puzzle.several if len(board.left[place]) > 1]
     if len(found) == 0:
         return None
-    return min(found, key=lambda place: len(left[place]))
+    return min(found, key=lambda place: len(board.left[place]))
 
 
 def solution(puzzle):
     """The dict from the places to values that all bonds let, None if there is none."""
-    left, strikes = begun(puzzle)
-    if is_stuck(left, strikes):
+    board, strikes = begun(puzzle)
+    if is_stuck(board, strikes):
         return None
-    return solution_from(puzzle, left)
+    return solution_from(puzzle, board)
 
 
-def solution_from(puzzle, left):
+def solution_from(puzzle, board):
     """A solution in which each place has a value left to it, None if there is none."""
-    place = unsettled(puzzle, left)
+    place = unsettled(puzzle, board)
     if place is None:
-        return {other: left[other][0] for other in left}
-    for value in left[place]:
-        further, strikes = tried(puzzle, left, place, value)
-        if not is_stuck(further, strikes):
-            found = solution_from(puzzle, further)
+        return {other: board.left[other][0] for other in board.left}
+    mark = len(board.log)
+    for value in list(board.left[place]):
+        strikes = tried(puzzle, board, place, value)
+        if not is_stuck(board, strikes):
+            found = solution_from(puzzle, board)
             if found is not None:
                 return found
+        board.put_back(mark)
     return None
 
 
 def solutions_many(puzzle):
     """How many solutions there are."""
-    left, strikes = begun(puzzle)
-    if is_stuck(left, strikes):
+    board, strikes = begun(puzzle)
+    if is_stuck(board, strikes):
         return 0
-    return solutions_from(puzzle, left)
+    return solutions_from(puzzle, board)
 
 
-def solutions_from(puzzle, left):
+def solutions_from(puzzle, board):
     """How many solutions there are in which each place has a value left to it."""
-    place = unsettled(puzzle, left)
+    place = unsettled(puzzle, board)
     if place is None:
         return 1
     many = 0
-    for value in left[place]:
-        further, strikes = tried(puzzle, left, place, value)
-        if not is_stuck(further, strikes):
-            many += solutions_from(puzzle, further)
+    mark = len(board.log)
+    for value in list(board.left[place]):
+        strikes = tried(puzzle, board, place, value)
+        if not is_stuck(board, strikes):
+            many += solutions_from(puzzle, board)
+        board.put_back(mark)
     return many

@@ -31,7 +31,7 @@ def ask_three(task, row):
 
 def ask_lone_choice(task, row, choice):
     """BadChoice unless choice is one of row."""
-    if not is_triple(choice) or choice not in all_lone_choices(task, row):
+    if not is_triple(choice) or not all([value in told for value, told in zip(choice, answers_alone(task, row))]):
         raise BadChoice("a choice is a triple of what the three hands answer alone")
 
 
@@ -40,11 +40,24 @@ def is_triple(thing):
     return isinstance(thing, tuple) and len(thing) == 3 and all([is_number(item) for item in thing])
 
 
+def answers_alone(task, row):
+    """The list of the lists of what the hands of row answer alone."""
+    return [[answer[0][1] for answer in task.answers((pair,))] for pair in row]
+
+
+def lone_choices_many(task, row):
+    """How many choices there are."""
+    many = 1
+    for told in answers_alone(task, row):
+        many = many * len(told)
+    return many
+
+
 def all_lone_choices(task, row):
     """The ascending list of all choices."""
     found = [()]
-    for pair in row:
-        found = [some + (answer[0][1],) for some in found for answer in task.answers((pair,))]
+    for told in answers_alone(task, row):
+        found = [some + (value,) for some in found for value in told]
     return found
 
 
