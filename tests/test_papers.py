@@ -166,7 +166,10 @@ def changed_papers(paper):
         for at, way in enumerate(middle):
             longer = way[:1] + way[1:2] + way
             for put in (way[:-1], way[1:], way[::-1], way + way[-1:], longer, (way[0], way[-1]), list(way), (), None,
-                        way[:1], tuple(list(place) for place in way), way + way[-2:][::-1] + way[-1:]):
+                        way[:1], tuple(list(place) for place in way), way + way[-2:][::-1] + way[-1:],
+                        tuple((hand, bool(value) if value < 2 else value) for hand, value in way),
+                        tuple((bool(hand) if hand < 2 else hand, value) for hand, value in way),
+                        tuple((float(hand), float(value)) for hand, value in way)):
                 yield (word, middle[:at] + (put,) + middle[at + 1:], last)
         yield (word, middle[:2], last)
         yield (word, middle[::-1], last)
@@ -198,6 +201,9 @@ class Papers(Case):
                            (((0, 0), (1, 1)), False), ((), False), (((0, 0), (2, 2)), False), (((0, 0), (0, 9)), False)):
             self.assertIs(is_choice_paper(apart, ROW, (0, 1, 2), ("apart", (0, 1), reach)), let)
         self.assertIs(is_choice_paper(apart, ROW, (0, 1, 2), ("apart", (1, 2), ((1, 1),))), False)
+        for side in ((1, 0), (0, 3), (0, 0), (3, 3), (0, 1.0), (False, True), (0,), (0, 1, 2), ((0, 1),), [0, 1], None):
+            for reach in (((0, 0),), ((1, 1),)):
+                self.assertIs(is_choice_paper(apart, ROW, (0, 1, 2), ("apart", side, reach)), False)
 
     def test_rings_gone_round_some_times(self):
         for times in (2, 3, 4, 5, 6, 7, 12, 33):
@@ -210,8 +216,20 @@ class Papers(Case):
             # So many rounds are nothing, so that weights tell one from nothing only modulo a common divisor.
             self.assertEqual(paper[0], "weights")
             self.assertTrue(math.gcd(paper[1], times) > 1)
+            self.check_shifted(task, paper)
             for changed in changed_papers(paper) if times < 4 else []:
                 self.assertIs(is_choice_paper(task, ROW, (0, 0, 0), changed), plain_judge(task, ROW, (0, 0, 0), changed))
+
+    def check_shifted(self, task, paper):
+        """Weights may be shifted by what places are taken to weigh; half of the sums come out otherwise."""
+        chance = random.Random(paper[1])
+        ties = plain_ties(task, ROW)
+        for _ in range(12):
+            shift = {place: chance.randrange(paper[1]) for tie in ties for place in tie}
+            told = {tie: (paper[2][tie] + shift[tie[1]] - shift[tie[0]]) % paper[1] for tie in ties}
+            self.assertIs(is_choice_paper(task, ROW, (0, 0, 0), ("weights", paper[1], told)), True)
+            none = {tie: (shift[tie[1]] - shift[tie[0]]) % paper[1] for tie in ties}
+            self.assertIs(is_choice_paper(task, ROW, (0, 0, 0), ("weights", paper[1], none)), False)
 
     def test_each_choice_has_one_paper(self):
         chance = random.Random(82)
@@ -233,6 +251,9 @@ class Papers(Case):
                 self.assertIs(is_choice_paper(task, row, choice, changed), plain_judge(task, row, choice, changed), changed)
             for other in lone_choices(task, row):
                 self.assertIs(is_choice_paper(task, row, other, paper), plain_judge(task, row, other, paper))
+            for answer in task.answers(row) if paper[0] == "filled" else []:
+                if answer not in paper[2]:
+                    self.assertIs(is_choice_paper(task, row, choice, paper[:2] + ({**paper[2], answer: 0},)), False)
             self.check_one_kind(task, row, choice, paper[0], chance)
 
     def check_one_kind(self, task, row, choice, kind, chance):

@@ -77,6 +77,18 @@ class Judge:
                        for answer in self.answers[kinds(row)])
 
 
+def bool_of(thing):
+    """The same with False and True in the place of 0 and 1."""
+    if isinstance(thing, tuple):
+        return tuple(bool_of(item) for item in thing)
+    return bool(thing) if thing in (0, 1) else thing
+
+
+def float_of(thing):
+    """The same with floats in the place of numbers."""
+    return tuple(float_of(item) for item in thing) if isinstance(thing, tuple) else float(thing)
+
+
 def changed_papers(paper, chance):
     """Papers with one change somewhere."""
     strikes, corner, papers = paper
@@ -90,14 +102,14 @@ def changed_papers(paper, chance):
         yield (strikes[:at] + (list(strikes[at]),) + strikes[at + 1:], corner, papers)
         for place in range(4):
             part = strikes[at][place]
-            for put in (None, True, False, 0, 1, 2, (), [], "0", 10 ** 30, strikes[other][place], corner,
-                        list(part) if isinstance(part, tuple) else float(part)):
+            for put in (None, True, False, 0, 1, 2, (), [], "0", 10 ** 30, strikes[other][place], corner, float_of(part),
+                        *([part[1:], part[:-1], list(part), bool_of(part)] if isinstance(part, tuple) else [])):
                 strike = strikes[at][:place] + (put,) + strikes[at][place + 1:]
                 yield (strikes[:at] + (strike,) + strikes[at + 1:], corner, papers)
         for put in (None, (), strikes[at][:3], strikes[at] + (0,), 0):
             yield (strikes[:at] + (put,) + strikes[at + 1:], corner, papers)
         yield (strikes, strikes[at][0], papers)
-    for put in (None, True, (), 0, (0, 0), (0, 10 ** 9), list(corner), (bool(corner[0]),) + corner[1:]):
+    for put in (None, True, (), 0, (0, 0), (0, 10 ** 9), list(corner), bool_of(corner), float_of(corner)):
         yield (strikes, put, papers)
     for put in (None, (), [], 0, {True: paper}, {0: paper}, {0: paper, 1: paper}, list(papers.items())):
         yield (strikes, corner, put)
@@ -105,6 +117,8 @@ def changed_papers(paper, chance):
         yield (strikes, corner, {key: papers[key] for key in papers if key != value})
         yield (strikes, corner, {**papers, value + 100: papers[value]})
         yield (strikes, corner, {float(key) + 0.5 if key == value else key: papers[key] for key in papers})
+        yield (strikes, corner, {float(key): papers[key] for key in papers})
+        yield (strikes, corner, {str(key) if key == value else key: papers[key] for key in papers})
         yield (strikes, corner, {bool(key) if key == value and key < 2 else key: papers[key] for key in papers})
         yield (strikes, corner, {**papers, value: ((), corner, {})})
         yield (strikes, corner, {**papers, value: list(papers[value])})
@@ -146,6 +160,13 @@ class Refuting(Case):
             for first in (0, 1)})
         self.assertIs(is_refutation(TORN, 0, by_hand), True)
         self.assertIs(is_refutation(TORN, 0, by_hand[2][0]), False)
+        judge, chance = Judge(TORN, 0), random.Random(12)
+        for one in (paper, by_hand):
+            for changed in changed_papers(one, chance):
+                self.assertIs(is_refutation(TORN, 0, changed), judge.refutes(changed), changed)
+        # No paper is tried for a value that is the only one left.
+        alone = refutation(EXAMPLE, 0)
+        self.assertIs(is_refutation(EXAMPLE, 0, ((), (0, 5), {0: alone})), False)
         for numbers in itertools.product((0, 1), repeat=4):
             told = dict(zip([(0, 0), (0, 1), (1, 0), (1, 1)], numbers))
             for one in (paper, by_hand):
@@ -183,7 +204,8 @@ class Refuting(Case):
         self.assertIs(judge.refutes(paper), True)
         self.assertIs(self.same(is_refutation, "task rounds thing", task, rounds, paper), True)
         self.check_keys(paper)
-        for changed in itertools.islice(changed_papers(paper, chance), 300):
+        every = list(itertools.islice(changed_papers(paper, chance), 3000))
+        for changed in chance.sample(every, min(200, len(every))):
             self.assertIs(is_refutation(task, rounds, changed), judge.refutes(changed), changed)
         told = plain_choices(task, rounds)
         for at in range(25):

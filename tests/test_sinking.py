@@ -70,6 +70,20 @@ class Sinking(Case):
         fall = sink(SOME, ROW, papers, 1, lambda corner: corner[1][0][1])
         self.assertEqual(fall, (ROW, (((2,), (1,), (0,)),), ((0, 0), (1, 1), (2, 2))))
 
+    def test_hands_alone(self):
+        row = ((0, 4), (1, 1), (2, 2))
+        task = few(3, (1, 2, 4), 2)
+        papers = all_rounds(task, row)
+        for hand, value in row:
+            for rounds in (0, 1, 2):
+                def answer(corner):
+                    seen = plain_leaves(rounds, (corner,))
+                    return 9 if seen == {(hand, value)} else dict(sorted(seen))[corner[0]]
+                self.assertEqual(sink(task, row, papers, rounds, answer),
+                                 (((hand, value),), (((hand,),),) * rounds, ((hand, 9),)))
+                self.assertEqual(filling(task, row, rounds, answer),
+                                 (((hand, value),), (((hand,),),) * rounds, ((hand, 9),)))
+
     def test_all_kinds_of_tasks(self):
         chance = random.Random(91)
         found, kinds_met = {}, set()

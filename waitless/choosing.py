@@ -120,7 +120,7 @@ def all_far(task):
         for value in alone[one]:
             away = ties_away(web, (one[0], value))
             for last in alone[other]:
-                if (one[0], value) in web and (other[0], last) in away:
+                if (other[0], last) in away:
                     found[row][(value, last)] = away[(other[0], last)]
     return found
 
@@ -150,12 +150,10 @@ def makes_choice(task, rounds, thing):
 
 def is_near(task, row, ties, chosen):
     """Whether what is chosen for the two spots of row are places, no more than so many ties apart."""
-    web = web_of(task, row)
     one, other = places_chosen(row, chosen)
-    away = ties_away(web, one)
-    if one not in web or other not in away:
-        return False
-    return ties is None or away[other] <= ties
+    # From what is no place of the web no walk leads on.
+    away = ties_away(web_of(task, row), one)
+    return other in away and (ties is None or away[other] <= ties)
 
 
 def places_chosen(row, chosen):

@@ -3,7 +3,7 @@
 from waitless.asking import ask_answer, ask_rounds
 from waitless.courses import course_seen
 from waitless.errors import NoRefutation
-from waitless.judging import is_number, is_pair
+from waitless.judging import is_number
 from waitless.pictures import all_facets, ask_few_facets, makes_face
 from waitless.rows import hands_in, told_of
 from waitless.solving import ask_few_ways, begun, Board, is_stuck, Puzzle, solution, solutions_many, tried, unsettled
@@ -137,7 +137,7 @@ def is_strike_right(task, rounds, left, thing):
     if not isinstance(thing, tuple) or len(thing) != 4:
         return False
     corner, value, row, facet = thing
-    if not is_pair(corner) or not is_built(rounds, (corner,)) or not is_number(value):
+    if not is_built(rounds, (corner,)) or not is_number(value):
         return False
     if not task.has(row) or not makes_face(row, rounds, facet) or hands_in(facet) != hands_in(row):
         return False
