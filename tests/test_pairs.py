@@ -329,6 +329,9 @@ class Choosing(Case):
         paper = ("ask", (1, 0), {4: ("ask", (0, 0), {0: ("far", row, levels)})})
         for rounds, let in ((0, True), (1, True), (2, False), (None, False)):
             self.assertIs(is_far_paper(task, rounds, paper), let)
+        for rounds in (0, 1, 2, None):
+            for changed in self.changed_levels(levels):
+                self.check_levels(task, rounds, row, changed)
         squeezed = {place: min(level, 4) for place, level in levels.items()}
         paper = ("ask", (1, 0), {4: ("ask", (0, 0), {0: ("far", row, squeezed)})})
         self.assertIs(is_far_paper(task, 1, paper), True)
@@ -336,6 +339,29 @@ class Choosing(Case):
             "far", row, {place: min(level, 3) for place, level in levels.items()})})})), False)
         self.assertIs(is_far_paper(task, 1, ("ask", (1, 0), {4: ("far", row, squeezed)})), False)
         self.assertIs(is_far_paper(task, 1, ("far", row, squeezed)), False)
+
+    def changed_levels(self, levels):
+        """The levels with one change: steps of two, values and keys of other kinds, other places."""
+        for times in (-1, 0, 1, 2, 3, 1.0):
+            yield {place: level * times for place, level in levels.items()}
+        yield {place: 5 for place in levels}
+        yield {place: place == (1, 4) for place in levels}
+        for place, level in levels.items():
+            for put in (level + 1, level - 1, level + 2, level - 2, float(level), level + 0.5, bool(level), True, None, "1",
+                        (level,), 10 ** 40, -10 ** 40):
+                yield {**levels, place: put}
+            left = {one: levels[one] for one in levels if one != place}
+            yield left
+            for put in (None, True, 0, "0", (), place + (0,), place[:1], (place,), (place[0], None), (place[0], str(place[1])),
+                        (bool(place[0]), place[1]), (place[0], float(place[1])), (place[0], 77), (2, place[1])):
+                yield {**left, put: level}
+        yield {**levels, (0, 77): 0}
+        yield {**levels, None: 0}
+        yield list(levels.items())
+
+    def check_levels(self, task, rounds, row, levels):
+        paper = ("ask", (1, 0), {4: ("ask", (0, 0), {0: ("far", row, levels)})})
+        self.assertIs(is_far_paper(task, rounds, paper), plain_is_far_paper(task, rounds, paper), levels)
 
     def test_large(self):
         begun = time.monotonic()
