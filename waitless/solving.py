@@ -102,9 +102,14 @@ def is_stuck(board, strikes):
     return len(strikes) > 0 and len(board.left[strikes[-1][0]]) == 0
 
 
+def several_left(puzzle, board):
+    """The list of the places with two or more values left."""
+    return [place for place in puzzle.several if len(board.left[place]) > 1]
+
+
 def unsettled(puzzle, board):
     """A place with the fewest values left, two or more; None if all have one."""
-    found = [place for place in puzzle.several if len(board.left[place]) > 1]
+    found = several_left(puzzle, board)
     if len(found) == 0:
         return None
     return min(found, key=lambda place: len(board.left[place]))
@@ -144,9 +149,13 @@ def solutions_many(puzzle):
 
 def solutions_from(puzzle, board):
     """How many solutions there are in which each place has a value left to it."""
-    place = unsettled(puzzle, board)
-    if place is None:
+    places = several_left(puzzle, board)
+    if len(places) == 0:
         return 1
+    # What is left to a place has been let beside all that is settled, so that the last one need not be tried.
+    if len(places) == 1:
+        return len(board.left[places[0]])
+    place = unsettled(puzzle, board)
     many = 0
     mark = len(board.log)
     for value in list(board.left[place]):
