@@ -3,7 +3,7 @@
 import random
 import unittest
 
-from waitless.lattices import not_dividing, plus, put_down, steps_down, weights_against
+from waitless.lattices import added, not_dividing, plus, put_down, steps_down, weights_against
 
 
 def summed(vectors, counts):
@@ -17,9 +17,16 @@ def summed(vectors, counts):
 
 class Lattices(unittest.TestCase):
     def check(self, vectors, targets):
+        found = self.check_steps(vectors, targets, steps_down(vectors))
+        # The same vectors, put in one behind the other, from the middle on.
+        steps = steps_down(vectors[:len(vectors) // 2])
+        for number in range(len(vectors) // 2, len(vectors)):
+            steps = added(steps, vectors[number], {number: 1})
+        self.assertEqual(self.check_steps(vectors, targets, steps), found)
+        return found
+
+    def check_steps(self, vectors, targets, steps):
         before = [dict(vector) for vector in vectors]
-        steps = steps_down(vectors)
-        self.assertEqual(vectors, before)
         for at, (column, vector, counts) in enumerate(steps):
             self.assertEqual(summed(vectors, counts), vector)
             self.assertTrue(vector[column] != 0 and all(vector.values()))
@@ -39,6 +46,7 @@ class Lattices(unittest.TestCase):
                 self.assertEqual(weighs[:-1], [0] * len(vectors))
                 self.assertNotEqual(weighs[-1], 0)
         self.assertEqual(found[:len(vectors)], [True] * len(vectors))
+        self.assertEqual(vectors, before)
         return found[len(vectors):]
 
     def test_by_hand(self):

@@ -394,6 +394,22 @@ class Papers(Case):
                     self.assertEqual(self.told(TooMany, all_rounds, wide, ROW).most, 64 if not few_choices else 300)
                 self.assertEqual(len(lone_choices(wide, ROW)), counts[0] * counts[1] * counts[2])
 
+    def test_long_lines_and_rings(self):
+        begun = time.monotonic()
+        # Nearly 300 answers; a ring is filled only if the ways lead round as often as it is left out.
+        for size, ring, lone, parts_of in ((42, False, (0, 21, 41), None), (42, True, (0, 14, 28), None),
+                                           (42, True, (0, 1, 2), None), (25, False, (24, 0, 12), True),
+                                           (20, True, (0, 7, 14), True), (10, False, (9, 9, 0), None)):
+            task = line_task(size, ring, lone, parts_of)
+            self.assertTrue(len(task.answers(ROW)) <= 300)
+            paper = choice_paper(task, ROW, lone)
+            self.assertEqual(paper[0], "filled")
+            self.assertIs(plain_judge(task, ROW, lone, paper), True)
+            self.assertIs(is_choice_paper(task, ROW, lone, paper), True)
+            self.assertTrue(max(len(way) for way in paper[1]) < 200)
+            self.assertIsNone(all_rounds(task, ROW))
+        self.assertLess(time.monotonic() - begun, 60)
+
     def test_large(self):
         begun = time.monotonic()
         chance = random.Random(85)
@@ -420,6 +436,21 @@ class Papers(Case):
                 self.assertIs(is_all_rounds(task, ROW, papers), True)
         self.assertTrue({"weights", "filled"} <= set(met))
         self.assertLess(time.monotonic() - begun, 100)
+
+
+def line_task(size, ring, lone, parts_of=None):
+    """A task of answers side by side on a line or a ring, for all parts, or for those of two hands what is told."""
+    def apart(x, y):
+        return min((x - y) % size, (y - x) % size) if ring else abs(x - y)
+
+    table_of = {ROW: [tuple(enumerate(told)) for told in itertools.product(range(size), repeat=3)
+                      if all(apart(x, y) <= 1 for x, y in itertools.combinations(told, 2))]}
+    for side in plain_sides(ROW):
+        table_of[part_of(ROW, side)] = [tuple(zip(side, told)) for told in itertools.product(range(size), repeat=2)
+                                        if parts_of or apart(*told) <= 1]
+    for pair, value in zip(ROW, lone):
+        table_of[(pair,)] = [((pair[0], value),)]
+    return Task(3, table_of)
 
 
 def plain_reach(task, row, first, side):

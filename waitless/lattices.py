@@ -64,6 +64,24 @@ def less(row, other, times):
     return (plus(row[0], other[0], -times), plus(row[1], other[1], -times))
 
 
+def added(steps, vector, counts):
+    """What steps_down tells, and one vector more, made by counts."""
+    found = []
+    row = (vector, counts)
+    for column, pivot, made in steps:
+        step = (pivot, made)
+        while column in row[0]:
+            row = less(row, step, row[0][column] // step[0][column])
+            # What remains is smaller, and takes the place of the step.
+            if column in row[0]:
+                row, step = step, row
+        found.append((column, step[0], step[1]))
+    if len(row[0]) > 0:
+        column = best_entry([row])[1]
+        found.append((column, row[0], row[1]))
+    return found
+
+
 def put_down(steps, target):
     """The triple (rest, counts, number): what is left of target once as much as can be is taken off.
 

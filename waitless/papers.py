@@ -1,13 +1,13 @@
 """Papers of choices: each choice has one of just one of the three kinds."""
 
 from waitless.errors import BadHands, TooMany
-from waitless.lattices import plus, put_down, steps_down, weights_against
+from waitless.lattices import added, plus, put_down, steps_down, weights_against
 from waitless.odd import ask_odd_paper
 from waitless.pairs import ties_away
 from waitless.rows import part_with
 from waitless.tasks import ask_task
 from waitless.weights import all_lone_choices, ask_lone_choice, ask_three, counts_along, is_triple, lone_choices_many
-from waitless.weights import makes_choice_paper, side_ends, side_web, sides_of, ties_of
+from waitless.weights import makes_choice_paper, side_ends, side_web, sides_of, steps_along, ties_of
 
 ANSWERS_MOST = 300
 CHOICES_MOST = 64
@@ -21,7 +21,6 @@ class Frame:
     """
 
     def __init__(self, task, row, roots):
-        self.whole = task.answers(row)
         self._row = row
         self._roots = roots
         self._columns = {}
@@ -31,7 +30,7 @@ class Frame:
             for tie in task.answers(part_with(row, side)):
                 if tie[0] in away:
                     self._along[tie] = number
-        self.basis = steps_down([self.rim(answer) for answer in self.whole])
+        self.basis = steps_down([self.rim(answer) for answer in task.answers(row)])
 
     def tie(self, tie):
         """The vector of a tie."""
@@ -62,7 +61,10 @@ def choice_paper(task, row, choice):
     ask_three(task, row)
     ask_lone_choice(task, row, choice)
     ask_few_answers(task, row)
-    return paper_of(task, row, choice, {})
+    paper = unfilled_paper(task, row, choice, {})
+    if paper is None:
+        return filled_paper(task, row, choice)
+    return paper
 
 
 def all_rounds(task, row):
@@ -72,9 +74,11 @@ def all_rounds(task, row):
         raise TooMany(CHOICES_MOST)
     ask_few_answers(task, row)
     frames = {}
-    papers = {choice: paper_of(task, row, choice, frames) for choice in all_lone_choices(task, row)}
-    if any([paper[0] == "filled" for paper in papers.values()]):
-        return None
+    papers = {}
+    for choice in all_lone_choices(task, row):
+        papers[choice] = unfilled_paper(task, row, choice, frames)
+        if papers[choice] is None:
+            return None
     return papers
 
 
@@ -117,8 +121,8 @@ def makes_all_rounds(task, row, thing):
                 for choice, paper in thing.items()])
 
 
-def paper_of(task, row, choice, frames):
-    """A paper of choice; frames keeps the Frames that were made, by their roots."""
+def unfilled_paper(task, row, choice, frames):
+    """A paper of choice that is not filled, None if there is none; frames keeps the Frames made, by their roots."""
     paper = apart_paper(task, row, choice)
     if paper is not None:
         return paper
@@ -128,15 +132,50 @@ def paper_of(task, row, choice, frames):
         frames[roots] = Frame(task, row, roots)
     frame = frames[roots]
     low, middle, high = [frame.between(number, one, other) for number, (one, other) in enumerate(ends)]
-    rest, counts, number = put_down(frame.basis, plus(plus(low, middle, 1), high, -1))
-    if len(rest) > 0:
-        modulus, weights = weights_against(frame.basis, rest, number)
-        told = {tie: weighed(frame.tie(tie), weights) % modulus for tie in ties_of(task, row)}
-        return ("weights", modulus, told)
-    told = {frame.whole[at]: counts[at] for at in sorted(counts)}
+    rest, _, number = put_down(frame.basis, plus(plus(low, middle, 1), high, -1))
+    if len(rest) == 0:
+        return None
+    modulus, weights = weights_against(frame.basis, rest, number)
+    return ("weights", modulus, {tie: weighed(frame.tie(tie), weights) % modulus for tie in ties_of(task, row)})
+
+
+def filled_paper(task, row, choice):
+    """The filled paper of choice, whose ways can be filled."""
+    answers = task.answers(row)
+    columns = {tie: number for number, tie in enumerate(ties_of(task, row))}
+    sides = [(side_web(task, row, side), side_ends(row, choice, side)) for side in sides_of(row)]
+    trees = [tree_from(web, ends[0]) for web, ends in sides]
+    shortest = [path_to(tree, pair[1][1]) for tree, pair in zip(trees, sides)]
+    target = as_vector(columns, shortest)
+    basis = steps_down([{columns[part_with(answer, side)]: 1 for side in sides_of(row)} for answer in answers])
+    rest, counts, _ = put_down(basis, target)
+    # The shortest ways are left only as far as they must be: what leads round is let loop by loop.
+    loops = loops_along(task, row, trees)
+    number = len(answers)
+    while len(rest) > 0:
+        basis = added(basis, as_vector(columns, [loops.pop()]), {number: 1})
+        rest, counts, _ = put_down(basis, target)
+        number += 1
+    told = {answers[at]: counts[at] for at in sorted(counts) if at < len(answers)}
     flows = counts_along(row, told)
-    ways = [way_along(side_web(task, row, side), pair, flows) for side, pair in zip(sides_of(row), ends)]
-    return ("filled", tuple(ways), told)
+    return ("filled", tuple([way_along(web, ends, flows) for web, ends in sides]), told)
+
+
+def as_vector(columns, ways):
+    """The vector of the steps along ways, ties being columns."""
+    steps = steps_along(ways)
+    return {columns[tie]: steps[tie] for tie in steps if steps[tie] != 0}
+
+
+def loops_along(task, row, trees):
+    """The list of the closed walks that go by one tie of answers to row, and else along the trees of the sides."""
+    found = []
+    for side, tree in zip(sides_of(row), trees):
+        held = {part_with(answer, side): True for answer in task.answers(row)}
+        for one, other in task.answers(part_with(row, side)):
+            if (one, other) in held and one in tree and tree[one] != other and tree[other] != one:
+                found.append(path_to(tree, one) + path_to(tree, other)[::-1])
+    return found
 
 
 def apart_paper(task, row, choice):
