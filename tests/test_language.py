@@ -41,13 +41,33 @@ INTERFACE = [
     ("papers", "choice_paper all_rounds is_all_rounds from_odd"),
     ("sinking", "sink filling"),
     ("families", "Family within least_sets closed is_closed stops either meets dual meeting"),
+    ("powers", "chain is_picks is_lead power picks lead"),
+    ("rules", "Acting is_known knew weaving_to"),
+    ("waits", "home waiting carried"),
+    ("guests", "Hosts holding"),
+    ("plains", "Plain plain_of in_rounds"),
+    ("surfaces", "Surface turning kind doubled"),
+    ("drawing", "pushed led"),
+    ("polygons", "cutting is_cutting rim word rest"),
+    ("undrawing", "drawn undrawn is_undrawn"),
+    ("points", "loop_task Points"),
+    ("nearness", "near_rounds near_answer short_way is_short_way near_fall"),
+    ("fewness", "few_rounds few_paper"),
+    ("webs", "web_rounds web_answer web_paper is_web_paper"),
+    ("webfalls", "web_fall"),
+    ("texts", "row_text course_text weaving_text task_text read_row read_course read_weaving read_task"),
+    ("desk", "Desk desk_from"),
 ]
 METHODS = {"Task": "inputs answers table", "Cells": "step run view ended steps level found weaving twin",
-           "Runner": "step answers taking_part", "Line": "answer answers table", "Family": "holds"}
+           "Runner": "step answers taking_part", "Line": "answer answers table", "Family": "holds",
+           "Acting": "step led known answers", "Hosts": "step answers laid held run", "Plain": "table may task",
+           "Points": "answers answer", "Desk": "say twin"}
+# What the interface calls an attribute of one class and a method of another one.
+BOTH = {"task"}
 LET_BUILTINS = set("""len range enumerate zip min max sum abs sorted reversed int str bool bytes list tuple dict set
     isinstance ord repr any all divmod ValueError""".split())
-LET_METHODS = set("""append clear copy count endswith extend find get index insert items join keys pop remove reverse
-    setdefault startswith update values""".split())
+LET_METHODS = set("""append clear copy count endswith extend find get index insert items join keys partition pop remove
+    reverse setdefault split startswith update values""".split())
 BARRED_NAMES = set("""register mro elements open input law version_info with_traceback add_note attrgetter breakpoint
     builtins compile copyright delattr dir eval exec exit gc getattr globals hasattr help id importlib license locals
     methodcaller os quit setattr super type vars sys""".split())
@@ -181,7 +201,9 @@ class Files(unittest.TestCase):
 
     def test_modules_import_from_those_ahead(self):
         sequence = [name for name, _ in INTERFACE]
-        free = {"judging": 0, "asking": 0, "matching": 1, "solving": 0, "lattices": 0, "__init__": 0}
+        # How many of the sequence each of the package's own modules may import from.
+        free = {"judging": 0, "asking": 0, "matching": 1, "solving": 0, "lattices": 0, "__init__": 0,
+                "folding": sequence.index("polygons"), "between": sequence.index("sinking")}
         for name, tree in self.each():
             own = name[:-3]
             for node in tree.body:
@@ -302,7 +324,7 @@ class Files(unittest.TestCase):
                     assigned[node.name] = (given, set(own))
         every = {attr for given, _ in assigned.values() for attr in given}
         methods = {attr for _, own in assigned.values() for attr in own}
-        self.assertEqual(every & methods, set())
+        self.assertEqual(every & methods, BOTH)
         self.assertEqual(every & BARRED_ATTRIBUTES, set())
         for name, tree in self.each():
             for node in ast.walk(tree):
