@@ -4,7 +4,7 @@ import random
 import time
 
 from tests.helping import ODD, Case, kinds
-from tests.shapes import (GRID, PLANE, SURFACES, TETRAHEDRON, TORUS, all_pushes, is_plain_way, plain_pushed, some_loop, some_way)
+from tests.shapes import (GRID, OCTAHEDRON, PLANE, SURFACES, TETRAHEDRON, TORUS, all_pushes, is_plain_way, plain_pushed, some_loop, some_way)
 from tests.test_surfaces import NO_SURFACES
 from waitless.drawing import led, pushed
 from waitless.errors import BadPush, BadSurface, BadWay
@@ -84,6 +84,10 @@ class Drawing(Case):
             if not (isinstance(thing, tuple) and thing and all(type(place) is int and place in range(4) for place in thing)):
                 self.told(BadWay, pushed, FOUR, thing, ("out", 1))
         self.told(BadWay, led, Surface(PLANE), (0, 6), [])
+        # Two places across from one another aren't tied.
+        for way in ((0, 5), (0, 1, 3), (1, 2, 4), (1, 1, 3), (3, 1, 1)):
+            self.told(BadWay, led, Surface(OCTAHEDRON), way, [])
+            self.told(BadWay, pushed, Surface(OCTAHEDRON), way, ("out", 1))
         self.assertEqual(led(SEVEN, (0, 6), []), (0, 6))
 
     def test_long_ways(self):

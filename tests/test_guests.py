@@ -347,7 +347,8 @@ class Guests(Case):
         for host in NO_NUMBERS + [-1, 2, 10 ** 30]:
             self.told(BadHand, hosts.step, host)
         self.assertEqual(hosts.step(1), ("find", 0, 0))
-        no_guests = [None, True, 0, [0], (), (0, 0), (True,), (0, False), (3,), (-1,), ("0",), (0, 1, 2, 0), {0: 1}, (0.0,)]
+        no_guests = [None, True, 0, [0], (), (0, 0), (True,), (0, False), (3,), (-1,), ("0",), (0, 1, 2, 0), {0: 1}, (0.0,),
+                     (0, 3), (0, -1), (0, "1"), (0, True), (0, 2.0), (0, None), (3, 0)]
         self.wrong(holding, [3, (0, 2)], (BadMany, NO_MANY), (BadGuests, no_guests))
         self.told(BadGuests, holding, 6, (0, 1, 2, 3, 4))
         self.assertEqual(Hosts((1, 2, 3, 4), 1, never).answers(), {})

@@ -62,6 +62,29 @@ METHODS = {"Task": "inputs answers table", "Cells": "step run view ended steps l
            "Runner": "step answers taking_part", "Line": "answer answers table", "Family": "holds",
            "Acting": "step led known answers", "Hosts": "step answers laid held run", "Plain": "table may task",
            "Points": "answers answer", "Desk": "say twin"}
+# The parameters of functions, classes and methods, as the document calls them.
+PARAMETERS = """
+powers: chain(family choice) is_picks(family number thing) is_lead(family number thing) power(family) picks(family) lead(family)
+rules: Acting(values rule) Acting.step(hand) Acting.led(weaving) Acting.known(hand) Acting.answers() is_known(many hand thing)
+    knew(many hand known other number) weaving_to(many hand known)
+waits: home(family) waiting(family) carried(family rule)
+guests: Hosts(values many rule) Hosts.step(host) Hosts.answers() Hosts.laid() Hosts.held() Hosts.run() holding(many guests)
+plains: Plain(table) Plain.table() Plain.may(bag thing) Plain.task(count) plain_of(task) in_rounds(many rounds answer)
+surfaces: Surface(triangles) turning(surface) kind(surface) doubled(surface)
+drawing: pushed(surface way push) led(surface way pushes)
+polygons: cutting(surface) is_cutting(surface thing) rim(surface cutting) word(surface cutting way) rest(surface cutting way)
+undrawing: drawn(surface loop) undrawn(surface loop) is_undrawn(surface loop thing)
+points: loop_task(surface loop marks) Points(surface loop marks) Points.answers(row course) Points.answer(point)
+nearness: near_rounds(many top) near_answer(many rounds corner) short_way(many top rounds) is_short_way(many top rounds thing)
+    near_fall(many top rounds answer)
+fewness: few_rounds(many values most) few_paper(many values most)
+webs: web_rounds(many places ties) web_answer(many places ties rounds corner) web_paper(many places ties)
+    is_web_paper(many places ties thing)
+webfalls: web_fall(many places ties rounds answer)
+texts: row_text(row) course_text(hands course) weaving_text(weaving) task_text(task) read_row(text) read_course(hands text)
+    read_weaving(text) read_task(text)
+desk: Desk(task rounds row) Desk.say(line) Desk.twin() desk_from(task rounds row weaving)
+"""
 # What the interface calls an attribute of one class and a method of another one.
 BOTH = {"task"}
 LET_BUILTINS = set("""len range enumerate zip min max sum abs sorted reversed int str bool bytes list tuple dict set
@@ -223,6 +246,24 @@ class Files(unittest.TestCase):
                 self.assertIn(name, defined)
                 for method in METHODS.get(name, "").split():
                     self.assertIn(method, [node.name for node in defined[name].body if isinstance(node, ast.FunctionDef)])
+
+    def test_parameters_are_called_as_told(self):
+        module, count = None, 0
+        for word in re.findall(r"\w+:|[\w.]+\([^)]*\)", PARAMETERS):
+            if word.endswith(":"):
+                module = tree_of(word[:-1] + ".py")
+                continue
+            name, _, told = word[:-1].partition("(")
+            owner, _, method = name.partition(".")
+            node = [node for node in module.body if getattr(node, "name", None) == owner][0]
+            if isinstance(node, ast.ClassDef):
+                method = method or "__init__"
+                node = [part for part in node.body if getattr(part, "name", None) == method][0]
+                told = "self " + told
+            self.assertEqual([one.arg for one in node.args.args], told.split(), word)
+            self.assertEqual((node.args.defaults, node.args.kwonlyargs, node.args.posonlyargs), ([], [], []))
+            count += 1
+        self.assertEqual(count, 72)
 
     def test_no_unused_imports(self):
         for name, tree in self.each():

@@ -60,6 +60,14 @@ def beside(rounds, one, other):
                for ends in (plain_end(row, course) for course in plain_courses(hands, rounds)))
 
 
+def own(corner):
+    """The value that the hand of a corner began with."""
+    view = corner[1]
+    while isinstance(view, tuple):
+        view = dict(view)[corner[0]]
+    return view
+
+
 def answers_for(top):
     """Functions of a corner that tell what they do."""
     def seen(corner):
@@ -71,7 +79,9 @@ def answers_for(top):
         return [pair for inner in view for pair in (all_seen(inner[1]) if isinstance(inner[1], tuple) else [inner])]
     return [lambda corner: 0, lambda corner: top, lambda corner: min(seen(corner)), lambda corner: max(seen(corner)),
             lambda corner: (min(seen(corner)) + max(seen(corner))) // 2, lambda corner: top // 2,
-            lambda corner: sum(map(ord, kinds(corner))) % (top + 1), lambda corner: corner[0]]
+            lambda corner: sum(map(ord, kinds(corner))) % (top + 1), lambda corner: corner[0],
+            # One hand tells its own value, all others as if they had heard nothing else.
+            lambda corner: own(corner) if corner[0] == 0 else 0, lambda corner: own(corner) if corner[0] == 1 else top]
 
 
 class Nearness(Case):

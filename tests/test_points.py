@@ -127,7 +127,10 @@ class LoopTasks(Case):
             self.told(BadMarks, called, FOUR, (0, 1, 2, 3, 2, 0), (1, 4))
             self.told(BadMarks, called, FOUR, (0, 1, 2, 3, 0, 3, 0), (1, 2))
             called(FOUR, (0, 0, 1, 1, 2, 2, 0, 0), (2, 5))
-            called(FOUR, (0, 1, 0, 1, 0), (1, 2)) if are_plain_marks((0, 1, 0, 1, 0), (1, 2)) else None
+            for marks in ((2, 2), (3, 3), (3, 2), (4, 3), (1, 4), (0, 3), (1, 5)):
+                self.told(BadMarks, called, FOUR, (0, 1, 2, 3, 0), marks)
+            for marks in ((1, 2), (1, 3), (2, 3)):
+                called(FOUR, (0, 1, 2, 3, 0), marks)
 
     def test_errors_in_sequence(self):
         great = Surface([tuple(50 if place == 5 else place for place in triangle) for triangle in PLANE])
@@ -227,6 +230,87 @@ class PointsOfTriangles(Case):
                         row = tuple(zip((0, 1, 2), side + side[:1]))
                         places = tuple(points.answer(whole(one)) for one in close)
                         self.assertTrue(is_plain_answer(surface, loop, marks, row, places))
+
+    def test_courses_led_to_where_answers_differ(self):
+        # In each round the blocks are taken behind which answers would be as unlike as can be by then.
+        chance = random.Random(947)
+        for surface in (FOUR, Surface(OCTAHEDRON), SEVEN, SIX, Surface(TWO_HOLES), Surface(BOTTLE)):
+            for loop, marks in some_marked(chance, surface, 9, 14):
+                if drawn(surface, loop) is None:
+                    continue
+                points = Points(surface, loop, marks)
+                for row in [ROW] * 6 + [((0, 0), (1, 1)), ((0, 1), (2, 2)), ((0, 2), (1, 0), (2, 2)), ((1, 2), (2, 0))]:
+                    course = self.worst_course(chance, surface, points, row)
+                    found = points.answers(row, course)
+                    self.assertTrue(is_plain_answer(surface, loop, marks, row, tuple(found.values())), (loop, marks, row, course))
+
+    def worst_course(self, chance, surface, points, row):
+        hands = tuple(hand for hand, _ in row)
+        every, course = plain_blocks(hands), ()
+        held = {hand: tuple(int(value == corner) for corner in range(3)) for hand, value in row}
+        for _ in range(points.rounds):
+            best = None
+            for blocks in every:
+                sees = plain_sights(blocks)
+                moved = {hand: tuple(15 // (2 * len(sees[hand]) - 1) * (2 * sum(held[other][at] for other in sees[hand]) - held[hand][at])
+                                     for at in range(3)) for hand in hands}
+                places = {points.answer(moved[hand]) for hand in hands}
+                worth = (not is_spot(surface, places), len(places), chance.random())
+                if best is None or worth > best[0]:
+                    best = (worth, blocks, moved)
+            course, held = course + (best[1],), best[2]
+        return course
+
+    def test_along_rays_and_around(self):
+        # Side by side, wherever it is, what is answered is one place or the two ends of a tie.
+        chance = random.Random(948)
+        middle = (1, 1, 1)
+        for surface in (FOUR, SEVEN, SIX, Surface(TWO_HOLES)):
+            count = 0
+            for loop, marks in some_marked(chance, surface, 9, 30):
+                if drawn(surface, loop) is None or count == 5:
+                    continue
+                count += 1
+                points = Points(surface, loop, marks)
+                for _ in range(3):
+                    rim = self.rim_point(chance.randrange(3000), 1000)
+                    self.check_line(surface, points, [tuple((3000 - at) * one + 1000 * at for one in rim) for at in range(3001)])
+                    self.check_line(surface, points, [tuple((1500 - at) * one + 1000 * (1500 + at) for one in rim) for at in range(1501)])
+                for depth in (0, 1, 40, chance.randint(41, 499), chance.randint(41, 499), 499, 500):
+                    around = [self.rim_point(at, 1000) for at in range(3001)]
+                    self.check_line(surface, points, [tuple(3 * (1000 - depth) * one + 1000 * depth for one in rim) for rim in around])
+                self.assertEqual(points.answer(middle), loop[0])
+
+    def test_every_square(self):
+        # For loops that are drawn together by a few pushes: wherever four close points of a fine net lie, they answer a spot.
+        chance = random.Random(949)
+        count = 0
+        while count < 10:
+            surface = chance.choice([FOUR, Surface(OCTAHEDRON), SEVEN, SIX])
+            loop, marks = some_marked(chance, surface, 5, 1)[0]
+            if len(loop) < 5 or drawn(surface, loop) is None or not 4 < len(drawn(surface, loop)) < 16:
+                continue
+            count += 1
+            points = Points(surface, loop, marks)
+            rim = [self.rim_point(3 * at + 1, 200) for at in range(200)]
+            net = [[points.answer(tuple(3 * (2000 - depth) * one + 200 * depth for one in there)) for there in rim + rim[:1]]
+                   for depth in range(0, 1010, 3)]
+            for one, other in zip(net, net[1:]):
+                for at in range(200):
+                    self.assertTrue(is_spot(surface, one[at:at + 2] + other[at:at + 2]), (loop, marks))
+
+    def rim_point(self, at, whole_side):
+        """A point of the rim, by how far around it lies."""
+        shares = [0, 0, 0]
+        corner, along = at // whole_side % 3, at % whole_side
+        shares[corner] = whole_side - along
+        shares[(corner + 1) % 3] = along
+        return tuple(shares)
+
+    def check_line(self, surface, points, line):
+        places = [points.answer(point) for point in line]
+        for one, other in zip(places, places[1:]):
+            self.assertTrue(is_spot(surface, (one, other)))
 
     def some_point(self, chance, corners=(0, 1, 2)):
         """A point, often near to a rim, a corner or the middle."""

@@ -20,13 +20,7 @@ TWO = Surface(TWO_HOLES)
 
 def hang(names, ties):
     """Whether ties lead each of names to each, without a round."""
-    piece = {name: name for name in names}
-    for one, other in ties:
-        if piece[one] == piece[other]:
-            return False
-        old, new = piece[one], piece[other]
-        piece = {name: new if piece[name] == old else piece[name] for name in names}
-    return len(set(piece.values())) == 1
+    return grows(names, ties) and len(ties) == len(names) - 1
 
 
 def is_plain_cutting(surface, tree, crossed):

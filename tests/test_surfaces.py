@@ -95,6 +95,7 @@ class Surfaces(Case):
                 self.told(BadSurface, Surface, one + [removed, removed])
                 self.told(BadSurface, Surface, one + [removed[::-1]])
                 self.assertEqual(Surface(one + [removed]), Surface(triangles))
+        self.told(BadSurface, Surface, [(0, 1, 2), (0, 1, 2)])
         # Two that are apart, that have a place alike, that have a tie alike.
         other = [tuple(place + 4 for place in triangle) for triangle in TETRAHEDRON]
         self.told(BadSurface, Surface, TETRAHEDRON + other)

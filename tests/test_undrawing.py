@@ -6,7 +6,7 @@ import time
 
 from tests.helping import ODD, Case, kinds
 from tests.shapes import (FOUR_HOLES, GRID, KLEIN, PLANE, SURFACES, TETRAHEDRON, THREE_PLANES, TORUS, TWO_HOLES, is_spot,
-                          near_places, plain_pushed, plain_ties, some_drawn_loop, some_loop)
+                          near_places, plain_pushed, plain_ties, some_drawn_loop, some_loop, some_way, way_back)
 from tests.test_drawing import NO_WAYS
 from tests.test_polygons import plain_rest, plain_word
 from tests.test_surfaces import NO_SURFACES
@@ -177,6 +177,41 @@ class Undrawing(Case):
             for number in range(12):
                 self.assertTrue(self.check(surface, some_drawn_loop(chance, surface, 10 * number)))
 
+    def test_loops_around_rims(self):
+        # Rims walked to and back from, one behind the other, and some of them within the way back of others.
+        chance = random.Random(939)
+        for surface, sides, holes in SMALL:
+            if holes == 0:
+                continue
+            cut = cutting(surface)
+            around = rim(surface, cut)
+            for number in range(8):
+                base = chance.choice(surface.places)
+                loop = (base, base)
+                for _ in range(chance.randint(1, 3)):
+                    way = some_way(chance, surface, chance.randint(0, 6), base)
+                    at = chance.choice([at for at, place in enumerate(around) if place == way[-1]])
+                    piece = around[at:-1] + around[:at + 1]
+                    piece = chance.choice((piece, piece[::-1]))
+                    told = way + piece[1:] + way[::-1][1:]
+                    spots = [at for at, place in enumerate(loop) if place == base]
+                    at = chance.choice(spots)
+                    loop = loop[:at] + told + loop[at + 1:]
+                self.assertTrue(self.check(surface, loop))
+                if sides == 2:
+                    self.check_broken(chance, surface, around, loop)
+
+    def check_broken(self, chance, surface, around, loop):
+        """Half a rim put into a loop that can be drawn together makes one that can't be, or can: it is told rightly."""
+        at = chance.randrange(len(around) - 1)
+        half = around[at:at + len(around) // 2]
+        self.check(surface, way_back(surface, half))
+        other = way_back(surface, half)
+        if other[0] in loop:
+            spot = loop.index(other[0])
+            joined_loop = loop[:spot] + other + loop[spot + 1:]
+            self.assertEqual(self.check(surface, joined_loop), self.check(surface, other))
+
     def test_loops_by_chance(self):
         chance = random.Random(935)
         for surface, sides, holes in SMALL:
@@ -316,11 +351,15 @@ class Undrawing(Case):
         for place in surface.places:
             changed = {tie: weights[tie] + 5 * (tie[0] == place) - 5 * (tie[1] == place) for tie in weights}
             self.assertIs(is_undrawn(surface, loop, ("weights", modulus, changed)), True)
-        self.assertIs(is_undrawn(surface, loop, ("weights", modulus, list(weights.items()))), False)
+        for other in (list(weights.items()), None, 0, [], (), "", set(weights)):
+            self.assertIs(is_undrawn(surface, loop, ("weights", modulus, other)), False)
+        self.assertIs(is_undrawn(surface, loop + loop[1:], paper), modulus == 0)
         self.assertIs(is_undrawn(surface, loop, ("weights", modulus, {tie: 0 for tie in weights})), False)
 
     def check_word(self, surface, loop, paper):
         _, cut, pushes = paper
+        self.assertIs(is_undrawn(surface, (loop[0],), ("word", cut, [])), False)
+        self.assertIs(is_undrawn(surface, loop + loop[::-1][1:], ("word", cut, [])), False)
         self.assertIs(is_undrawn(surface, loop, ("word", cut, tuple(pushes))), True)
         for changed in (None, {}, 0, pushes + [None], pushes + [("out", 0)], [("out", 0)] + pushes):
             self.assertIs(is_undrawn(surface, loop, ("word", cut, changed)), False)
@@ -336,6 +375,72 @@ class Undrawing(Case):
         if around[0] == loop[0]:
             self.assertIs(is_undrawn(surface, around, ("word", cut, [])), False)
         self.assertIs(is_undrawn(SEVEN, (0, 1, 2, 3, 4, 5, 6, 0), ("word", cutting(SEVEN), [])), False)
+
+    def test_stretches_of_half_the_ring_and_more(self):
+        cut = cutting(TWO)
+        around = rim(TWO, cut)
+        ring = word(TWO, cut, around)
+        near = {}
+        for one, other in cut[0]:
+            near.setdefault(one, []).append(other)
+            near.setdefault(other, []).append(one)
+        count = {}
+        for first in range(len(around) - 1):
+            turned = around[first:-1] + around[:first + 1]
+            for length in range(2, len(turned)):
+                back = self.tree_way(near, turned[length - 1], turned[0])
+                for loop in (turned[:length] + back[1:], (turned[:length] + back[1:])[::-1]):
+                    letters = plain_word(cut, loop)
+                    if len(letters) in (1, 4, 5, 6, 7):
+                        count[len(letters)] = True
+                        self.assertIs(is_undrawn(TWO, loop, ("word", cut, [])), len(letters) <= len(ring) // 2)
+        self.assertEqual(sorted(count), [1, 4, 5, 6, 7])
+
+    def tree_way(self, near, one, other):
+        """The way along a tree."""
+        ways = [(one,)]
+        while True:
+            for way in ways:
+                if way[-1] == other:
+                    return way
+            ways = [way + (place,) for way in ways for place in near[way[-1]] if place not in way]
+
+    def test_doubles_of_loops_that_turn_over(self):
+        # The way over such a loop is none, so that nothing that is told of it counts.
+        over = doubled(SIX)
+        weights = {(one, other): other * other - one * one for one, other in plain_ties(over)}
+        loop = (0, 1, 2, 0)
+        self.assertNotEqual(count_along(weights, way_above(over, loop)), 0)
+        self.assertIs(is_undrawn(SIX, loop, ("double", ("weights", 0, weights))), False)
+
+    def test_ways_over_crossed_ties_have_no_words(self):
+        cut = cutting(TWO)
+        near = near_places(TWO)
+        tree = {}
+        for one, other in cut[0]:
+            tree.setdefault(one, []).append(other)
+            tree.setdefault(other, []).append(one)
+        letter = [tie for tie in TWO.ties if tie not in cut[0] + cut[1]][0]
+        for crossed in cut[1]:
+            for one, other in (crossed, crossed[::-1]):
+                loop = letter + self.tree_way(tree, letter[1], one)[1:] + (other,) + self.tree_way(tree, other, letter[0])[1:]
+                self.assertIn(other, near[one])
+                self.assertIs(is_undrawn(TWO, loop, ("word", cut, [])), False)
+
+    def test_no_words_on_one_side(self):
+        for triangles in (PLANE, THREE_PLANES, TORUS):
+            surface = Surface(triangles)
+            cut = cutting(surface)
+            loop = rim(surface, cut)
+            letters = [tie for tie in surface.ties if tie not in cut[0] + cut[1]]
+            near = {}
+            for one, other in cut[0]:
+                near.setdefault(one, []).append(other)
+                near.setdefault(other, []).append(one)
+            for letter in letters:
+                loop = letter + self.tree_way(near, letter[1], letter[0])[1:]
+                self.assertFalse(self.check(surface, loop))
+                self.assertIs(is_undrawn(surface, loop, ("word", cut, [])), False)
 
     def test_words_that_could_be_made_shorter(self):
         cut = cutting(TWO)

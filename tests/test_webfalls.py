@@ -4,21 +4,13 @@ import random
 import time
 
 from tests.helping import Case, kinds, plain_end
-from tests.test_nearness import NO_MANY, NO_ROUNDS, answers_for
+from tests.test_nearness import NO_MANY, NO_ROUNDS, answers_for, own
 from tests.test_webs import NO_PLACES, NO_TIES, full, is_let, ring_of, row_of, some_tree, some_web
 from waitless.errors import BadAnswer, BadMany, BadPlaces, BadRounds, BadTies, Enough
 from waitless.falls import is_fall
 from waitless.making import on_web
 from waitless.webfalls import web_fall
 from waitless.webs import web_answer, web_paper, web_rounds
-
-
-def own(corner):
-    """The value that the hand of a corner began with."""
-    view = corner[1]
-    while isinstance(view, tuple):
-        view = dict(view)[corner[0]]
-    return view
 
 
 def hands_in(corner):
@@ -99,26 +91,41 @@ class Webfalls(Case):
             ties = ring_of(places)
             for rounds in range(web_rounds(2, places, ties), 4):
                 for number in range(3):
-                    answer = self.right_for_two(places, ties, rounds, number)
-                    count = self.check_fall(3, places, ties, rounds, answer)
-                    self.assertLessEqual(count, 24 * (places + 1) * 3 ** rounds)
-                    fall = web_fall(3, places, ties, rounds, answer)
-                    self.assertEqual(len(fall[0]), 3)
+                    for turned in (lambda place: place, lambda place: (2 - place) % places, lambda place: (place + 2) % places):
+                        answer = self.right_for_two(places, ties, rounds, number, turned)
+                        count = self.check_fall(3, places, ties, rounds, answer)
+                        self.assertLessEqual(count, 24 * (places + 1) * 3 ** rounds)
+                        self.assertEqual(len(web_fall(3, places, ties, rounds, answer)[0]), 3)
 
-    def right_for_two(self, places, ties, rounds, number):
+    def right_for_two(self, places, ties, rounds, number, turned):
+        back = {turned(place): place for place in range(places)}
+
         def answer(corner):
             names = sorted(hands_in(corner))
             if len(names) < 3:
-                # Two hands are told by the table of two, the lower one as hand 0.
-                return web_answer(2, places, ties, rounds, self.named(corner, names))
+                # Two hands are told by the table of two, the lower one as hand 0, the ring being turned by some places.
+                return back[web_answer(2, places, ties, rounds, self.named(corner, names, turned))]
             return (own(corner), sum(map(ord, kinds(corner))) % places, 0)[number]
         return answer
 
-    def named(self, corner, names):
+    def test_inputs_that_stand_close_are_answered_alone(self):
+        # On a web of three places all stand close; but between two that are tied the third one isn't let.
+        def answer(corner):
+            values = [value for _, value in corner[1]]
+            return 3 - sum(set(values)) if len(set(values)) == 2 else own(corner)
+        self.check_fall(3, 3, ring_of(3), 1, answer)
+        self.assertEqual(len(web_fall(3, 3, ring_of(3), 1, answer)[0]), 2)
+
+    def test_three_places_do_not_stand_close(self):
+        def answer(corner):
+            return own(corner) if len(corner[1]) == 1 else (3, 1, 3)[corner[0]]
+        self.check_fall(3, 5, row_of(5), 1, answer)
+
+    def named(self, corner, names, turned):
         """The corner with its one or two hands called 0 and 1."""
         if isinstance(corner[1], tuple):
-            return (names.index(corner[0]), tuple(self.named(pair, names) for pair in corner[1]))
-        return (names.index(corner[0]), corner[1])
+            return (names.index(corner[0]), tuple(self.named(pair, names, turned) for pair in corner[1]))
+        return (names.index(corner[0]), turned(corner[1]))
 
     def test_falls_of_small_tasks(self):
         chance = random.Random(1034)
@@ -164,7 +171,7 @@ class Webfalls(Case):
                 count = self.check_fall(many, 60, ties, rounds, answer)
                 self.assertLessEqual(count, 24 * 61 * 3 ** rounds)
         # Two hands are told along a ring, so that only three of them show the fall.
-        answer = self.right_for_two(60, ring_of(60), 4, 0)
+        answer = self.right_for_two(60, ring_of(60), 4, 0, lambda place: place)
         count = self.check_fall(3, 60, ring_of(60), 4, answer)
         self.assertLessEqual(count, 24 * 61 * 3 ** 4)
         self.assertLess(time.monotonic() - begun, 120)

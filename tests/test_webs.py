@@ -209,6 +209,9 @@ class Webs(Case):
             for thing in right[:30]:
                 for other in changes(thing):
                     self.assertIs(is_web_paper(many, places, ties, other), kinds(other) in let, other)
+            for one, other in itertools.product(range(-1, places + 1), repeat=2):
+                thing = ("apart", one, other)
+                self.assertIs(is_web_paper(many, places, ties, thing), kinds(thing) in let)
             for row in itertools.product(range(places), repeat=3):
                 self.assertIs(is_web_paper(many, places, ties, ("ring", row)), kinds(("ring", row)) in let)
                 self.assertIs(is_web_paper(many, places, ties, ("ring", list(row))), False)

@@ -59,7 +59,7 @@ class Folding:
     """
 
     def __init__(self, surface, cutting, loop):
-        self.pushes = []
+        places, self.pushes = cut_short(surface, loop)
         self._tree = {tie: True for tie in cutting[0]}
         self._over = places_over(surface, cutting[1])
         ring = ring_of(surface, cutting)
@@ -68,9 +68,9 @@ class Folding:
         turned = [tuple([last - corner for corner in triangle]) for triangle in triangles]
         self._rings = [ring, backwards(ring)]
         self._polygons = [Polygon(corners, triangles, ring), Polygon(corners[::-1], turned, self._rings[1])]
-        self._done = [loop[0]]
+        self._done = places[:1]
         # What is left stands the last place first, so that the next one can be taken at once.
-        self._left = list(loop[:0:-1])
+        self._left = places[:0:-1]
         # For each letter done, where it begins, itself, and how many up to it are a stretch of each of the two rings.
         self._marks = []
 
@@ -156,6 +156,18 @@ class Folding:
         del self._done[start + 1:]
         del self._marks[-len(marks):]
         self._left.extend(others[:0:-1])
+
+
+def cut_short(surface, loop):
+    """The pair of the list of the places of loop without those that can be taken out one by one, and of the pushes."""
+    places = []
+    pushes = []
+    for place in loop:
+        while len(places) > 1 and surface.are_spot(places[-2:] + [place]):
+            pushes.append(("out", len(places) - 1))
+            places.pop()
+        places.append(place)
+    return (places, pushes)
 
 
 def places_over(surface, crossed):

@@ -149,10 +149,10 @@ class Hosts:
 
     def _ask_guest(self, guest):
         """The rule is asked what guest says behind its looks that are laid down, as far as it wasn't."""
-        values = {other: self._laid[other][0] for other in range(self._many) if len(self._laid[other]) > 0}
-        looks = [tuple(agreed[1:]) for agreed in self._laid]
-        while self._asked[guest] < len(looks[guest]) and self._said[guest] is None:
+        while self._asked[guest] < len(self._laid[guest]) - 1 and self._said[guest] is None:
             number = self._asked[guest] + 1
+            values = {other: self._laid[other][0] for other in range(self._many) if len(self._laid[other]) > 0}
+            looks = [agreed[1:] for agreed in self._laid]
             self._said[guest] = said(self._rule, guest, known_behind(values, looks, guest, number))
             self._asked[guest] = number
 

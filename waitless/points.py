@@ -1,7 +1,7 @@
 """Points: loop tasks, and a program of points of a triangle that does those whose loop can be drawn together."""
 
-from waitless.courses import makes_course
 from waitless.blocks import seen_by
+from waitless.courses import makes_course
 from waitless.drawing import are_all_one, ask_loop, do_push
 from waitless.errors import BadCourse, BadMarks, BadPoint, BadRow, TooMany, Undrawn
 from waitless.judging import is_from, is_number, is_pair, is_rowlike
@@ -40,7 +40,7 @@ class Points:
 
     A point's depth tells how many pushes are done to loop, and its direction seen from the middle, where on the loop
     it lies. A place has two slots in the loop's length, so that a push can be done in two steps: in each of them all
-    behind it is moved on by one slot, and any four slots that meet, of two neighbours in two steps, are a spot.
+    behind it is moved by one slot, and any four slots that meet, of two neighbours in two steps, are a spot.
     """
 
     def __init__(self, surface, loop, marks):
@@ -101,11 +101,9 @@ class Points:
         at = slot // 2
         if layer % 2 == 1:
             push = self._pushes[done]
-            if push[0] == "in" and slot == 2 * push[1] + 2:
-                return push[2]
             if push[0] == "in" and slot > 2 * push[1] + 2:
                 at = (slot - 1) // 2
-            if push[0] == "out" and slot > 2 * push[1]:
+            elif push[0] == "out" and slot > 2 * push[1]:
                 at = (slot + 1) // 2
         # Behind the last place, which is the first one, there is nothing else.
         return (places + places[:1])[min(at, len(places))]

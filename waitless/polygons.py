@@ -33,7 +33,7 @@ def word(surface, cutting, way):
     ask_surface(surface)
     ask_cutting(surface, cutting)
     ask_way(surface, way)
-    return word_of(surface, cutting, way)
+    return asked_word(cutting, way)
 
 
 def rest(surface, cutting, way):
@@ -43,13 +43,21 @@ def rest(surface, cutting, way):
         raise BadSurface("a surface with two sides and two holes or more is asked for")
     ask_cutting(surface, cutting)
     ask_way(surface, way)
-    return shortened(word_of(surface, cutting, way), ring_of(surface, cutting))
+    return shortened(asked_word(cutting, way), ring_of(surface, cutting))
 
 
 def ask_cutting(surface, cutting):
     """BadCutting unless cutting is one of surface."""
     if not makes_cutting(surface, cutting):
         raise BadCutting("a cutting is a pair of the ties of a tree and of crossed ties")
+
+
+def asked_word(cutting, way):
+    """The word of way; Crossed if it goes over a crossed tie."""
+    letters = word_of(cutting, way)
+    if letters is None:
+        raise Crossed("the way goes over a crossed tie")
+    return letters
 
 
 def cutting_of(surface):
@@ -119,16 +127,16 @@ def laid_together(surface, crossed):
     return ([places[corner] for corner in around], [tuple([number[one] for one in some]) for some in triangles])
 
 
-def word_of(surface, cutting, way):
-    """The word of way; Crossed if it goes over a crossed tie."""
+def word_of(cutting, way):
+    """The word of way, None if it goes over a crossed tie."""
     tree = {tie: True for tie in cutting[0]}
     crossed = {tie: True for tie in cutting[1]}
     letters = []
     for at in range(len(way) - 1):
-        step = way[at:at + 2]
+        step = (way[at], way[at + 1])
         tie = tuple(sorted(step))
         if tie in crossed:
-            raise Crossed("the way goes over a crossed tie")
+            return None
         if step[0] != step[1] and tie not in tree:
             letters.append(step)
     return tuple(without_returns(letters))
@@ -158,7 +166,7 @@ def backwards(letters):
 def ring_of(surface, cutting):
     """The list of the letters around the rim."""
     corners = laid_together(surface, cutting[1])[0]
-    return list(word_of(surface, cutting, tuple(corners + corners[:1])))
+    return list(word_of(cutting, corners + corners[:1]))
 
 
 def followers(ring):

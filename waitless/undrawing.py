@@ -139,15 +139,10 @@ def is_word_left(surface, loop, cutting, pushes):
     if sides == 1 or holes < HOLES_LEAST or not makes_cutting(surface, cutting) or not is_list(pushes):
         return False
     places = list(loop)
-    if pushes_done(surface, places, pushes) < len(pushes) or goes_over(places, cutting[1]):
+    if pushes_done(surface, places, pushes) < len(pushes):
         return False
-    letters = list(word_of(surface, cutting, tuple(places)))
+    letters = word_of(cutting, places)
+    if letters is None or len(letters) == 0:
+        return False
     ring = ring_of(surface, cutting)
-    return len(letters) > 0 and 2 * longest_stretch(letters, ring)[1] <= len(ring)
-
-
-def goes_over(places, ties):
-    """Whether the way of these places goes over one of ties."""
-    let = {tie: True for tie in ties}
-    steps = [(min(places[at:at + 2]), max(places[at:at + 2])) for at in range(len(places) - 1)]
-    return any([step in let for step in steps])
+    return 2 * longest_stretch(letters, ring)[1] <= len(ring)
