@@ -143,6 +143,16 @@ def some_drawn_loop(chance, surface, pushes):
     return way
 
 
+def around_place(surface, place):
+    """The loop around a place."""
+    rim = [tuple(one for one in triangle if one != place) for triangle in surface.triangles if place in triangle]
+    around, last = [rim[0][0]], rim[0]
+    while len(around) == 1 or around[-1] != around[0]:
+        around.append(last[0] if last[1] == around[-1] else last[1])
+        last = [tie for tie in rim if around[-1] in tie and tie != last][0]
+    return tuple(around)
+
+
 def plain_side_count(surface):
     """1 if going round over ties turns some triangle, 2 otherwise."""
     turns = {surface.triangles[0]: surface.triangles[0]}

@@ -6,8 +6,8 @@ import time
 from fractions import Fraction
 
 from tests.helping import NO_NUMBERS, NO_ROWS, ODD, Case, kinds, plain_blocks, plain_sights
-from tests.shapes import (BOTTLE, FOUR_HOLES, GRID, OCTAHEDRON, PLANE, SURFACES, TETRAHEDRON, TORUS, TWO_HOLES, is_spot,
-                          near_places, some_drawn_loop, some_loop)
+from tests.shapes import (BOTTLE, FOUR_HOLES, GRID, OCTAHEDRON, PLANE, SURFACES, TETRAHEDRON, TORUS, TWO_HOLES, around_place,
+                          is_spot, near_places, some_drawn_loop, some_loop)
 from tests.test_drawing import NO_WAYS
 from tests.test_surfaces import NO_SURFACES
 from tests.test_undrawing import is_plain_paper
@@ -284,20 +284,57 @@ class PointsOfTriangles(Case):
     def test_every_square(self):
         # For loops that are drawn together by a few pushes: wherever four close points of a fine net lie, they answer a spot.
         chance = random.Random(949)
-        count = 0
-        while count < 10:
-            surface = chance.choice([FOUR, Surface(OCTAHEDRON), SEVEN, SIX])
-            loop, marks = some_marked(chance, surface, 5, 1)[0]
-            if len(loop) < 5 or drawn(surface, loop) is None or not 4 < len(drawn(surface, loop)) < 16:
-                continue
-            count += 1
+        count = {"in": 0, "out": 0}
+        while min(count.values()) < 6:
+            surface = chance.choice([FOUR, Surface(OCTAHEDRON), SEVEN, SIX, Surface(TWO_HOLES)])
+            loop, marks = self.loop_around(chance, surface)
+            pushes = drawn(surface, loop)
+            words = {push[0] for push in pushes}
+            if len(pushes) < 25 and are_plain_marks(loop, marks) and (words == {"in", "out"} or count["out"] < 6):
+                count["in" if "in" in words else "out"] += 1
+                self.check_net(surface, loop, marks)
+
+    def loop_around(self, chance, surface):
+        """A loop around a place or two, which can be drawn together, and marks on it."""
+        loop = around_place(surface, chance.choice(surface.places))
+        if chance.random() < 0.4:
+            other = around_place(surface, chance.choice(surface.places))
+            if loop[0] in other:
+                at = other.index(loop[0])
+                loop = loop + (other[at:-1] + other[:at + 1])[1:]
+        return loop, tuple(sorted(chance.sample(range(1, len(loop) - 1), 2)))
+
+    def check_net(self, surface, loop, marks):
+        points = Points(surface, loop, marks)
+        rim = [self.rim_point(3 * at + 1, 200) for at in range(200)]
+        net = [[points.answer(tuple(3 * (2000 - depth) * one + 200 * depth for one in there)) for there in rim + rim[:1]]
+               for depth in range(0, 1010, 3)]
+        for one, other in zip(net, net[1:]):
+            for at in range(200):
+                self.assertTrue(is_spot(surface, one[at:at + 2] + other[at:at + 2]), (loop, marks))
+
+    def test_loops_that_need_many_pushes(self):
+        chance = random.Random(950)
+        ring = [(at, (at + 1) % 30) for at in range(30)]
+        pyramid = Surface([tuple(sorted((one, other, top))) for one, other in ring for top in (30, 31)])
+        cases = [(pyramid, tuple(range(30)) + (0,), (10, 20))]
+        for wide, high in ((3, 3), (3, 5), (4, 5)):
+            spots = [(at, 0) for at in range(wide)] + [(wide, up) for up in range(high)]
+            spots += [(wide - at, high) for at in range(wide)] + [(0, high - up) for up in range(high + 1)]
+            cases.append((Surface(GRID), tuple(6 * (at % 5) + up % 6 for at, up in spots), (wide, wide + high + 1)))
+        for surface, loop, marks in cases:
             points = Points(surface, loop, marks)
-            rim = [self.rim_point(3 * at + 1, 200) for at in range(200)]
-            net = [[points.answer(tuple(3 * (2000 - depth) * one + 200 * depth for one in there)) for there in rim + rim[:1]]
-                   for depth in range(0, 1010, 3)]
-            for one, other in zip(net, net[1:]):
-                for at in range(200):
-                    self.assertTrue(is_spot(surface, one[at:at + 2] + other[at:at + 2]), (loop, marks))
+            self.assertGreater(len(drawn(surface, loop)), 64)
+            for _ in range(3):
+                rim = self.rim_point(chance.randrange(3000), 1000)
+                self.check_line(surface, points, [tuple((3000 - at) * one + 1000 * at for one in rim) for at in range(3001)])
+            for depth in (1, chance.randint(2, 300), chance.randint(300, 499)):
+                around = [self.rim_point(at, 1000) for at in range(3001)]
+                self.check_line(surface, points, [tuple(3 * (1000 - depth) * one + 1000 * depth for one in rim) for rim in around])
+            for _ in range(6):
+                found = points.answers(ROW, self.worst_course(chance, surface, points, ROW))
+                self.assertTrue(is_spot(surface, found.values()))
+                self.check_course(chance, surface, loop, marks, points)
 
     def rim_point(self, at, whole_side):
         """A point of the rim, by how far around it lies."""
