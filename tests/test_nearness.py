@@ -5,6 +5,7 @@ import random
 import time
 
 from tests.helping import NO_NUMBERS, ODD, Case, changes, kinds, plain_courses, plain_end, plain_leaves
+from waitless.choosing import least
 from waitless.errors import BadAnswer, BadCorner, BadMany, BadRounds, BadTop, Enough, TooMany
 from waitless.falls import is_fall
 from waitless.making import near
@@ -114,6 +115,9 @@ class Nearness(Case):
                 power = (3 if many == 2 else 2) ** count
                 if many > 1 and power < GREATEST:
                     self.assertEqual([near_rounds(many, power + more) for more in (0, 1)], [count, count + 1])
+        # What walks tell of two hands ([61]) is the same.
+        for top in range(10):
+            self.assertEqual(least(near(2, top)), near_rounds(2, top))
         for many, top, rounds in ((2, 1, 0), (2, 2, 0), (2, 3, 1), (3, 1, 0), (3, 2, 0), (2, 4, 1)):
             # Few enough choices, so that all tables are gone through.
             try:

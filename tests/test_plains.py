@@ -4,7 +4,7 @@ import itertools
 import random
 import time
 
-from tests.helping import NO_NUMBERS, NO_TASKS, ODD, TASK, Case, changes, kinds, plain_facets
+from tests.helping import NO_NUMBERS, NO_TASKS, ODD, TASK, Case, changes, kinds, plain_courses, plain_end, plain_facets
 from tests.test_rules import never
 from waitless.errors import BadBag, BadCount, BadMany, BadPlain, BadRounds, BadTask, TooMany
 from waitless.families import Family, closed, stops
@@ -12,9 +12,10 @@ from waitless.fewness import few_rounds
 from waitless.guests import Hosts
 from waitless.making import agreement, few, near, on_web
 from waitless.nearness import near_answer
+from waitless.orders import by_looks
 from waitless.plains import Plain, in_rounds, plain_of
 from waitless.powers import power
-from waitless.rules import Acting
+from waitless.rules import Acting, knew
 from waitless.tables import corners_of, is_table
 from waitless.tasks import Task, may_answer
 from waitless.views import are_together
@@ -393,6 +394,23 @@ class GoingThroughRounds(Case):
                         if host in hosts.answers() and at > 100:
                             break
                     self.assertIn(last, hosts.answers())
+
+    def test_rounds_by_looks_by_rounds(self):
+        # Rounds gone through by looks, which are told by other rounds ([43]): the task is done still.
+        for task, top in ((near(2, 3), 3), (on_web(2, 3, WEB), 2)):
+            told = {corner: near_answer(2, 1, corner) if top == 3 else web_answer(2, 3, WEB, 1, corner) for corner in corners_of(task, 1)}
+            rule = in_rounds(2, 1, lambda corner: told[corner])
+
+            def answer(hand, known):
+                # In a round a hand does two looks at most; the first number is its answer.
+                looks = [looks for one, _, looks in known if one == hand][0]
+                return [number for number in (rule(hand, knew(2, hand, known, hand, count)) for count in range(1, len(looks) + 1))
+                        if number is not None][0]
+            for row in task.inputs():
+                for course in plain_courses(tuple(hand for hand, _ in row), 4):
+                    ends = plain_end(row, course)
+                    answers = tuple((hand, by_looks(answer, 2, 2, (hand, ends[hand]))) for hand in ends)
+                    self.assertIn(answers, task.answers(row))
 
     def test_few_answers_against_families(self):
         for family in (stops(3, 1), stops(3, 2), closed(Family(2, [(0,), (1,)]))):

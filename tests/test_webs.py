@@ -6,6 +6,7 @@ import time
 
 from tests.helping import ODD, Case, changes, kinds, plain_courses, plain_end
 from tests.test_nearness import NO_MANY, NO_ROUNDS, some_course, some_row
+from waitless.choosing import least
 from waitless.errors import BadCorner, BadMany, BadPlaces, BadRounds, BadTies, NotEnough, TooMany
 from waitless.making import on_web
 from waitless.refuting import table
@@ -118,6 +119,12 @@ class Webs(Case):
             for ties in (some_tree(chance, places), some_web(chance, places), some_web(chance, places)[:places]):
                 for many in (1, 2, 3, 4):
                     self.check_web(many, places, ties)
+
+    def test_what_walks_tell_of_two_hands(self):
+        chance = random.Random(1025)
+        for places in range(1, 8):
+            for ties in (row_of(places), some_tree(chance, places), some_web(chance, places), some_web(chance, places)[:places]):
+                self.assertEqual(least(on_web(2, places, ties)), web_rounds(2, places, ties))
 
     def test_tables_of_small_tasks(self):
         for places, ties in ((1, ()), (2, ((0, 1),)), (2, ()), (3, row_of(3)), (3, ring_of(3)), (3, ((0, 1),))):
