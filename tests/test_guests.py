@@ -6,7 +6,7 @@ import time
 
 from tests.helping import NO_NUMBERS, Case, kinds
 from tests.test_rules import NO_MANY, NO_VALUES, never, some_rule
-from waitless.errors import BadGuests, BadHand, BadMany, BadSaying, BadValues
+from waitless.errors import BadGuests, BadHost, BadMany, BadSaying, BadValues
 from waitless.families import closed, Family, stops
 from waitless.guests import Hosts, holding
 from waitless.powers import power
@@ -14,6 +14,11 @@ from waitless.rules import Acting, is_known
 from waitless.waits import carried, home, waiting
 
 MANY_VALUES = NO_VALUES + [(1, 2, 3, 4, 5)]
+
+
+def no_hosts(count):
+    """Values that are none of so many hosts."""
+    return NO_NUMBERS + [-1, count, count + 1, 10 ** 30, "0", (0,), [0], 0.0]
 
 
 class PlainHosts:
@@ -343,15 +348,49 @@ class Guests(Case):
 
     def test_wrong_parameters(self):
         self.wrong(Hosts, [(5, 8), 2, never], (BadValues, MANY_VALUES), (BadMany, NO_MANY), (BadMany, []))
-        hosts = Hosts((5, 8), 6, never)
-        for host in NO_NUMBERS + [-1, 2, 10 ** 30]:
-            self.told(BadHand, hosts.step, host)
-        self.assertEqual(hosts.step(1), ("find", 0, 0))
         no_guests = [None, True, 0, [0], (), (0, 0), (True,), (0, False), (3,), (-1,), ("0",), (0, 1, 2, 0), {0: 1}, (0.0,),
                      (0, 3), (0, -1), (0, "1"), (0, True), (0, 2.0), (0, None), (3, 0)]
         self.wrong(holding, [3, (0, 2)], (BadMany, NO_MANY), (BadGuests, no_guests))
         self.told(BadGuests, holding, 6, (0, 1, 2, 3, 4))
         self.assertEqual(Hosts((1, 2, 3, 4), 1, never).answers(), {})
+
+    def test_what_is_no_host(self):
+        for values in ((3,), (5, 8), (5, 8, 2), (1, 2, 3, 4)):
+            for rule in (never, None):
+                hosts = Hosts(values, 6, rule)
+                for host in no_hosts(len(values)):
+                    self.told(BadHost, hosts.step, host)
+                    self.told(BadHost, hosts.step, host=host)
+                self.assertEqual((hosts.laid(), hosts.held(), hosts.answers(), hosts.run()), (((),) * 6, {}, {}, ()))
+                self.assertEqual(hosts.step(len(values) - 1), ("find", 0, 0))
+
+    def test_what_is_no_host_does_nothing_after_some_steps(self):
+        chance = random.Random(848)
+        words = set()
+        for number in range(60):
+            values, many, rule = some_hosts(chance, number)
+            hosts, other = Hosts(values, many, rule), Hosts(values, many, rule)
+            for _ in range(chance.randint(1, 90)):
+                told = (hosts.laid(), hosts.held(), hosts.answers(), hosts.run())
+                for host in chance.sample(no_hosts(len(values)), 3) + [len(values)]:
+                    self.told(BadHost, hosts.step, host)
+                    self.told(BadHost, hosts.step, host=host)
+                self.assertEqual(kinds((hosts.laid(), hosts.held(), hosts.answers(), hosts.run())), kinds(told))
+                host = chance.randrange(len(values))
+                step = other.step(host)
+                words.add(step[0])
+                # What was refused is as if it had never been called.
+                self.assertEqual(hosts.step(host), step)
+        self.assertEqual(words, {"find", "open", "look", "close", "leave", "tell", "answer", "end"})
+
+    def test_what_is_no_host_is_told_ahead_of_a_bad_saying(self):
+        hosts = Hosts((5,), 1, lambda hand, known: True)
+        while len(hosts.laid()[0]) < 2:
+            hosts.step(0)
+        self.told(BadSaying, hosts.step, 0)
+        for host in no_hosts(1):
+            self.told(BadHost, hosts.step, host)
+        self.told(BadSaying, hosts.step, 0)
 
     def test_four_hosts_and_six_guests(self):
         begun = time.monotonic()

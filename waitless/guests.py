@@ -1,6 +1,6 @@
 """Guests: hosts that never wait do together what guests would do, by agreements on all that a guest sees."""
 
-from waitless.errors import BadGuests, BadHand
+from waitless.errors import BadGuests, BadHost
 from waitless.families import ask_family_many
 from waitless.judging import is_from
 from waitless.rules import ask_hand_values, known_behind, said, weaving_with
@@ -44,7 +44,7 @@ class Hosts:
     def step(self, host):
         """The next step of host is done, and told as a triple of a word, a guest and a number."""
         if not is_from(host, 0, len(self._hosts) - 1):
-            raise BadHand("the host is none of those with values")
+            raise BadHost("the host is none of those with values")
         one = self._hosts[host]
         if one.word == "end":
             return ("end", None, None)
